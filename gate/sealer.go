@@ -4,7 +4,6 @@ import (
 	"iter"
 
 	"farebox/api"
-	"farebox/queue"
 	"farebox/record"
 	"farebox/seal"
 )
@@ -38,10 +37,10 @@ func (s sealer) opened(x api.Item) (api.Tap, bool) {
 	return tap, f.Code == api.OK && tap.Device == s.device && tap.Counter == x.Seq
 }
 
-// taps goes through what stands in a queue: of each item what opened tells.
-func (s sealer) taps(q *queue.Queue) iter.Seq2[api.Tap, bool] {
+// taps goes through items: of each what opened tells.
+func (s sealer) taps(l []api.Item) iter.Seq2[api.Tap, bool] {
 	return func(yield func(api.Tap, bool) bool) {
-		for _, x := range q.Peek(q.Len()) {
+		for _, x := range l {
 			if !yield(s.opened(x)) {
 				return
 			}
